@@ -1,6 +1,7 @@
 """Works of one turn each, some of them ahead of others: what is ahead of what, and the marks of the works."""
 
 from leastfloor.errors import NoOrder
+from leastfloor.wholes import all_in
 
 
 def ahead_of(many, needs):
@@ -60,3 +61,16 @@ def next_marked(straight, given):
 def falling_marks(works, given):
     """The marks of the works, the greatest first."""
     return sorted([given[work] for work in works], reverse=True)
+
+
+def keeps_order(many, needs, places, turns):
+    """Whether the turns, any lists, have each work once, in no turn more than places, and none ahead of its needs."""
+    if sorted(all_in(turns)) != list(range(many)):
+        return False
+    if not all([1 <= len(turn) <= places for turn in turns]):
+        return False
+    turn_of = {}
+    for number, turn in enumerate(turns):
+        for work in turn:
+            turn_of[work] = number
+    return all([turn_of[first] < turn_of[later] for first, later in needs])

@@ -40,9 +40,10 @@ def urgent_pairs(left, rest):
 def offers(left, rest):
     """What each hand, and behind the hands each bench's stand-in, may take: a bench, or a hand's stand-in.
 
-    A hand may take its own stand-in, or a bench be taken by its own, only where it can be without work: so where
-    all are taken, no hand and no bench that has work for the whole rest is left out. With stand-ins that take one
-    another as hands take benches, each line and column has the same sum, and so all can be taken at once.
+    A hand takes its own stand-in, and a bench is taken by its own, where it waits: so only one that has less work than
+    the rest may do that. Stand-ins take one another freely. There is a choice in which all are taken: let the bench's
+    stand-in take the hand's for as many hours as the hand has there, and each one its own for the hours that it waits;
+    then each takes, and is taken, for the whole rest, and such a table always has a choice of one in each row.
     """
     sums = loads(left)
     hands = len(sums[0])
@@ -53,7 +54,7 @@ def offers(left, rest):
         if load < rest:
             told[hand].append(benches + hand)
     for bench, load in enumerate(sums[1]):
-        told.append([benches + hand for hand in range(hands) if left[hand][bench] > 0])
+        told.append([benches + hand for hand in range(hands)])
         if load < rest:
             told[hands + bench].append(bench)
     return told

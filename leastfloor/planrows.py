@@ -70,3 +70,28 @@ def moments(rows):
 def busy(rows, moment):
     """The tuples (bench, work) of the rows in which the moment lies, sorted."""
     return sorted([(row[BENCH], row[WORK]) for row in rows if row[BEGIN] <= moment < row[END]])
+
+
+def lies_on(rows, benches, works):
+    """Whether the rows are apart, and each bench and each work of theirs is one of so many."""
+    return apart(rows) and all([row[BENCH] < benches and row[WORK] < works for row in rows])
+
+
+def has_hours(rows, hours):
+    """Whether each work has just its hours."""
+    return all([hours_of(rows, work) == wanted for work, wanted in enumerate(hours)])
+
+
+def rows_of(rows, bench):
+    """The rows of one bench."""
+    return [row for row in rows if row[BENCH] == bench]
+
+
+def none_too_soon(rows, comes):
+    """Whether no row begins ahead of its work's come."""
+    return all([comes[row[WORK]] <= row[BEGIN] for row in rows])
+
+
+def none_too_late(rows, dues):
+    """Whether no row ends behind its work's due."""
+    return all([row[END] <= dues[row[WORK]] for row in rows])

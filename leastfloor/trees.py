@@ -3,13 +3,11 @@
 from leastfloor.errors import NoOrder
 from leastfloor.wholes import divided_up
 
-NONE_LATER = -1
-
 
 def levels(behind):
     """For each work its level: 1 where nothing has to be later, else one more than that of the later work."""
     for later in behind:
-        if not NONE_LATER <= later < len(behind):
+        if not -1 <= later < len(behind):
             raise NoOrder(f"there is no work {later}")
     return [level_of(behind, work) for work in range(len(behind))]
 
@@ -18,7 +16,7 @@ def level_of(behind, work):
     """The level of one work."""
     level = 1
     later = behind[work]
-    while later != NONE_LATER:
+    while later != -1:
         level += 1
         # A chain that has more works than there are has one of them twice.
         if level > len(behind):
@@ -37,7 +35,7 @@ def tree_turns(behind, benches):
         ready = [work for work in left if waits[work] == 0]
         turn = sorted(sorted(ready, key=lambda work: (-heights[work], work))[:benches])
         for work in turn:
-            if behind[work] != NONE_LATER:
+            if behind[work] != -1:
                 waits[behind[work]] -= 1
         left = [work for work in left if work not in turn]
         turns.append(turn)

@@ -1,8 +1,9 @@
 """Works [come, due, hours] on benches alike: a plan within their windows, or the works and stretches that show none."""
 
 from leastfloor.alike import wrapped
-from leastfloor.flows import COME, DUE, hours_left, reached, shares
+from leastfloor.flows import COME, DUE, HOURS, hours_left, reached, shares
 from leastfloor.planrows import joined
+from leastfloor.wholes import are_rising
 
 
 def window_plan(works, benches):
@@ -49,3 +50,17 @@ def no_window(works, benches):
     many = len(works)
     some = [place for place in places if place < many]
     return (some, [stretches[place - many] for place in places if place >= many])
+
+
+def lacks_room(works, benches, some, stretches):
+    """Whether these numbers, any lists, are works that want more than their room in what are stretches."""
+    if not are_rising(some, len(works)) or not are_stretches(stretches):
+        return False
+    return sum([works[work][HOURS] for work in some]) > room(works, benches, some, stretches)
+
+
+def are_stretches(lists):
+    """Whether the lists are stretches [begin, end], sorted, no moment in two of them."""
+    if not all([len(each) == 2 and each[0] < each[1] for each in lists]):
+        return False
+    return all([one[1] <= other[0] for one, other in zip(lists, lists[1:])])
